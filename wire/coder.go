@@ -88,14 +88,24 @@ func digest(c *coder, d *api.Digest) {
 	*d = f
 }
 
-// list encodes or decodes l, whose elements have these fields.
-func list[T any](c *coder, l *[]T, fields func(*coder, *T)) {
-	n := len(*l)
-	number(c, &n)
+// limited aborts if n, the length of a list, is too great.
+func limited(n int) {
 	if n > api.MaxList {
 		must(api.ErrLimit)
 	}
-	for i := range n {
+}
+
+// length returns n, the length of a list, which it encodes, or the length that it decodes.
+func length(c *coder, n int) int {
+	limited(n) // ahead of the encoding, in which a length that is no count would be refused as a number
+	number(c, &n)
+	limited(n)
+	return n
+}
+
+// list encodes or decodes l, whose elements have these fields.
+func list[T any](c *coder, l *[]T, fields func(*coder, *T)) {
+	for i := range length(c, len(*l)) {
 		if i == len(*l) { // a list that is decoded has no elements yet; its count may exceed what the bytes hold
 			var x T
 			*l = append(*l, x)

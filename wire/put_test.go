@@ -113,6 +113,29 @@ func TestLists(t *testing.T) {
 	}
 }
 
+// TestLengthsThatAreNoCounts: a list or a string is refused as one that is too long, and not as a number, however long it is.
+func TestLengthsThatAreNoCounts(t *testing.T) {
+	held := map[string]bool{}
+	for _, s := range structures() {
+		for _, sort := range []string{"L", "S"} {
+			atEach(s, sort, func(p place, whole reflect.Value) {
+				held[p.code] = true
+				for _, n := range []int{math.MaxInt32, math.MaxInt32 + 1, 1 << 32, 1<<32 + 2, math.MaxInt} {
+					p.stretched(n)
+					if b, e := s.put(whole.Interface()); len(b) > 0 || e != api.ErrLimit {
+						t.Errorf("P8.1: Put%s with %s of length %d is %s, %d; want nothing, ErrLimit", s.name, p.path, n, hexed(b), e)
+					}
+				}
+			})
+		}
+	}
+	for _, code := range []string{"L(N)", "L(Version)", "L(User)", "L(Head)", "L(Session)", "S"} {
+		if !held[code] {
+			t.Errorf("no %s was held", code)
+		}
+	}
+}
+
 // TestLongListsOfWholes: the elements of a long list are encoded, not only counted.
 func TestLongListsOfWholes(t *testing.T) {
 	s := named("Directory")
@@ -189,6 +212,33 @@ func TestTheFirstErrorIsTheAnswer(t *testing.T) {
 	}
 	if seen[[2]api.Errno{api.ErrArg, api.ErrLimit}] < 100 || seen[[2]api.Errno{api.ErrLimit, api.ErrArg}] < 100 {
 		t.Fatalf("only %v", seen)
+	}
+}
+
+// TestTheFirstErrorBesideALengthThatIsNoCount: such a length is refused in its place, ahead of the elements of its list.
+func TestTheFirstErrorBesideALengthThatIsNoCount(t *testing.T) {
+	for _, s := range structures() {
+		for i, long := range places("", s.name, counting(2).made(s)) {
+			if long.code == "N" || long.code == "D" {
+				continue
+			}
+			for j, bad := range places("", s.name, counting(2).made(s)) {
+				if bad.code != "N" {
+					continue
+				}
+				whole := counting(2).made(s)
+				list := places("", s.name, whole)
+				list[j].spoil(i)
+				list[i].stretched(math.MaxInt32 + 1)
+				want := api.ErrLimit
+				if j < i {
+					want = api.ErrArg
+				}
+				if b, e := s.put(whole.Interface()); len(b) > 0 || e != want {
+					t.Fatalf("P8.1: Put%s with %s that is too long and %s that is no count is %s, %d; want nothing, %d", s.name, long.path, bad.path, hexed(b), e, want)
+				}
+			}
+		}
 	}
 }
 

@@ -158,6 +158,16 @@ func (p place) sized(n int) {
 	p.v.Set(l)
 }
 
+// stretched makes the list or the string at p n long, without memory for what it lacks: nothing but a call that refuses it may look there.
+func (p place) stretched(n int) {
+	if p.code == "S" {
+		(*reflect.StringHeader)(p.v.Addr().UnsafePointer()).Len = n
+		return
+	}
+	l := (*reflect.SliceHeader)(p.v.Addr().UnsafePointer())
+	l.Len, l.Cap = n, n
+}
+
 // same reports whether a and b are alike; an empty list may be nil.
 func same(a, b reflect.Value) bool {
 	if a.Type() != b.Type() {
